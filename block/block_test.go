@@ -83,7 +83,7 @@ func TestFlags(t *testing.T) {
 	for _, x := range []struct {
 		change func(b *block.Block)
 		want   byte
-	}{{func(b *block.Block) {}, 3}, {func(b *block.Block) { b.Floor = 0 }, 1}, {func(b *block.Block) { b.Gone = nil }, 2}, {func(b *block.Block) { b.Gone, b.Floor = nil, 0 }, 0}} {
+	}{{func(b *block.Block) {}, 3}, {func(b *block.Block) { b.Floor = 0 }, 1}, {func(b *block.Block) { b.Gone = nil }, 2}, {func(b *block.Block) { b.Gone, b.Floor = nil, 0 }, 0}, {func(b *block.Block) { b.Gone, b.Floor = b.Gone[:1], 0 }, 1}, {func(b *block.Block) { b.Gone, b.Floor = nil, 1 }, 2}} {
 		for gen := 1; gen <= 3; gen++ {
 			b := some()
 			x.change(&b)

@@ -151,6 +151,9 @@ func TestOpen(t *testing.T) {
 		}
 	}
 	s := frame.Head("AWAL", 2, 1)
+	if g, f, rest, err := frame.Open(s, "AWAL"); g != 2 || f != 1 || rest != "" || err != api.OK {
+		t.Errorf("nothing behind: %v", err)
+	}
 	for _, x := range []string{"", "AWAL", s[:9], "AMET" + s[4:], frame.Head("AMET", 2, 1), "BWAL\x09\x00" + crc.Tail("AWAL\x09\x00"), "AWAL\x09\x00abcd", "AWAL\x02\x01" + crc.Tail("AWAL\x02\x02")} {
 		if g, f, rest, err := frame.Open(x, "AWAL"); g != 0 || f != 0 || rest != "" || err != api.ErrCorrupt {
 			t.Errorf("%q: %v", x, err)

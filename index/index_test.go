@@ -229,6 +229,27 @@ func TestWhatIsPutIsGot(t *testing.T) {
 	}
 }
 
+// There may be 240 symbols: of 20 series, of 6 labels each.
+func TestManySymbols(t *testing.T) {
+	var l []index.Entry
+	for i := range 20 {
+		var x []string
+		for j := range 6 {
+			x = append(x, fmt.Sprintf("n%c%c", 'a'+i, 'a'+j), fmt.Sprintf("v%02d%d", i, j))
+		}
+		l = append(l, index.Entry{Labels: labels(x...), Last: int64(i)})
+	}
+	if n := len(index.Symbols(l)); n != 240 {
+		t.Fatalf("%d symbols", n)
+	}
+	for gen := 1; gen <= 3; gen++ {
+		s, err := index.Put(l, gen)
+		if got, also := index.Get(s, gen); err != api.OK || also != api.OK || !index.Same(got, l) {
+			t.Errorf("%d: %v %v", gen, err, also)
+		}
+	}
+}
+
 func TestCorrupt(t *testing.T) {
 	w := num.Wide
 	fix := func(s string) string { return s + strings.Repeat("\x00", 12-len(s)) + string([]byte{byte(len(s))}) }

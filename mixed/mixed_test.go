@@ -152,6 +152,7 @@ func TestCheck(t *testing.T) {
 		f    *simfs.Fs
 		want [4]api.Errno
 	}{
+		{store(t, 2, add(1, 1, "a", strings.Repeat("v", 24))), [4]api.Errno{0, api.ErrFuture, api.OK, api.ErrCorrupt}},
 		{store(t, 1, ops...), [4]api.Errno{0, api.OK, api.ErrCorrupt, api.ErrCorrupt}}, {store(t, 2), [4]api.Errno{0, api.ErrFuture, api.OK, api.ErrCorrupt}}, {store(t, 3, ops...), [4]api.Errno{0, api.ErrFuture, api.ErrFuture, api.OK}},
 		{torn, [4]api.Errno{0, api.ErrFuture, api.ErrCorrupt, api.ErrCorrupt}}, {with("other", ""), [4]api.Errno{0, api.ErrFuture, api.ErrCorrupt, api.ErrCorrupt}}, {with("tmp-journal", ""), [4]api.Errno{0, api.ErrFuture, api.ErrCorrupt, api.ErrCorrupt}}, {with("journal", ""), [4]api.Errno{0, api.ErrFuture, api.ErrBusy, api.ErrBusy}}, {busy, [4]api.Errno{0, api.ErrFuture, api.ErrBusy, api.ErrBusy}},
 		{long, [4]api.Errno{0, api.ErrFuture, api.ErrFuture, api.ErrCorrupt}}, {turned(t, 2, 1, "meta"), [4]api.Errno{0, api.ErrFuture, api.ErrCorrupt, api.ErrCorrupt}}, {turned(t, 2, 3, "block-000001"), [4]api.Errno{0, api.ErrFuture, api.ErrFuture, api.ErrCorrupt}},

@@ -51,6 +51,9 @@ func TestWide(t *testing.T) {
 			t.Errorf("%d: %d %q", n, v, c.S)
 		}
 	}
+	if c := (num.Cursor{S: num.Wide(77)}); c.Wide() != 77 || !c.Done() {
+		t.Error("eight bytes, and no more")
+	}
 	for n := range 8 {
 		s := strings.Repeat("\x01", n)
 		c := num.Cursor{S: s}
@@ -71,6 +74,9 @@ func TestText(t *testing.T) {
 			if got := c.Text(most); got != s || c.Bad || c.S != "rest" {
 				t.Errorf("%q: %q %q", s, got, c.S)
 			}
+		}
+		if c := (num.Cursor{S: w}); c.Text(len(s)) != s || !c.Done() {
+			t.Errorf("%q, and no more", s)
 		}
 		for _, most := range []int{len(s) - 1, -1, math.MinInt} {
 			c := num.Cursor{S: w}
@@ -103,6 +109,9 @@ func TestFixed(t *testing.T) {
 		if got := c.Fixed(x.n); got != x.s[:len(got)] || num.Fixed(got, x.n) != x.want || c.Bad || c.S != "rest" {
 			t.Errorf("%q of %d: %q %q", x.want, x.n, got, c.S)
 		}
+	}
+	if c := (num.Cursor{S: "ab\x00\x00\x02"}); c.Fixed(4) != "ab" || !c.Done() {
+		t.Error("five bytes, and no more")
 	}
 	for _, s := range []string{"", "ab\x00\x00", "ab\x00\x00\x05", "ab\x00\x00\xff", "ab\x00\x00\x01", "\x00\x00\x00a\x00", "ab\x00c\x02"} {
 		c := num.Cursor{S: s}

@@ -107,8 +107,13 @@ func TestRoom(t *testing.T) {
 		f.Room(math.MaxInt)
 		ok(t, f.Append("a", strings.Repeat("x", 1000)))
 		f.Crash(nil)
-		if f.Room(0); f.Size() != 0 {
+		if f.Size() != 0 {
 			t.Error("bytes that are gone")
+		}
+		f.Room(room)
+		ok(t, f.Create("b"))
+		if f.Append("b", "x") != api.ErrFull {
+			t.Errorf("%d: there is room", room)
 		}
 	}
 	f := simfs.New(10)

@@ -198,6 +198,9 @@ func TestErrs(t *testing.T) {
 	if n, err := tool.Migrate(nil, 3); n != 0 || err != api.ErrArg {
 		t.Errorf("nil: %v", err)
 	}
+	if gen, ok := tool.Pending(nil); gen != 0 || ok {
+		t.Errorf("nil: %d", gen)
+	}
 	if n, err := tool.Resume(nil); n != 0 || err != api.ErrArg {
 		t.Errorf("nil: %v", err)
 	}

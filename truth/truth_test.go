@@ -319,6 +319,13 @@ func TestValid(t *testing.T) {
 	if !truth.Valid(s) {
 		t.Error("200 samples may be")
 	}
+	s.Series = nil
+	for i := range 20 {
+		s.Series = append(s.Series, api.Series{Labels: labels("a", fmt.Sprintf("%02d", i)), Last: 5})
+	}
+	if !truth.Valid(s) {
+		t.Error("20 series may be")
+	}
 }
 
 func TestSame(t *testing.T) {
@@ -455,5 +462,9 @@ func TestAnyState(t *testing.T) {
 		}
 		truth.Apply(s, api.Rec{Kind: 1, Labels: labels("a", "x"), To: 9})
 		truth.Find(s, nil)
+	}
+	early := truth.State{Series: []api.Series{{Labels: labels("a", "x"), Samples: samples(3, 1, 9, 1), Last: -7}}}
+	if s, a, _ := truth.Do(early, api.Op{Kind: 2, T: 5}, 3); a.N != 1 || text(s) != `5 {a="x"}[{9 1}]-7` {
+		t.Errorf("a series that has a sample stays: %s", text(s))
 	}
 }

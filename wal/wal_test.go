@@ -198,6 +198,16 @@ func TestMostOfAFrame(t *testing.T) {
 	if g, err := wal.Read(head + s); err != api.OK || len(g.Recs) != 9999 {
 		t.Errorf("20000 bytes are read: %v", err)
 	}
+	odd := append(many(9998), api.Rec{Kind: 2, T: 128})
+	if s, _, err := wal.Put(wal.Writer{Gen: 3}, odd); s != "" || err != api.ErrMany {
+		t.Errorf("20001 bytes: %v", err)
+	}
+	if s, _, err := wal.Put(wal.Writer{Gen: 3}, odd[1:]); err != api.OK || len(s) != 3+19999+4 {
+		t.Errorf("19999 bytes: %v", err)
+	}
+	if _, err := wal.Read(head + frame.Put(num.Small(9999)+strings.Repeat("\x02\x01", 9998)+"\x02\x80\x01")); err != api.ErrCorrupt {
+		t.Errorf("20001 bytes are read: %v", err)
+	}
 	if s, w, err := wal.Put(wal.Writer{Gen: 3}, many(10000)); s != "" || err != api.ErrMany || !sameWriter(w, wal.Writer{Gen: 3}) {
 		t.Errorf("20002 bytes: %v", err)
 	}
@@ -290,6 +300,17 @@ func TestWhatIsPutIsRead(t *testing.T) {
 			if err == api.OK && (!g.Torn || !strings.HasPrefix(show(all), show(g.Recs))) || err != api.OK && len(g.Recs) > 0 {
 				t.Fatalf("%d: byte %d is another one: %v", gen, i, g)
 			}
+		}
+	}
+}
+
+func TestSixLabels(t *testing.T) {
+	six := []api.Rec{{Labels: labels("a", "1", "b", "2", "c", "3", "d", "4", "e", "5", "f", "6"), T: 1, V: 2}}
+	for gen := 1; gen <= 3; gen++ {
+		head, w, _ := wal.Begin(gen)
+		s, _, err := wal.Put(w, six)
+		if g, also := wal.Read(head + s); err != api.OK || also != api.OK || show(g.Recs) != show(six) {
+			t.Errorf("%d: %v %v", gen, err, also)
 		}
 	}
 }
